@@ -1,0 +1,1 @@
+"""Shortglue: shortest texts that hold all told pieces."""
