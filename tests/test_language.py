@@ -58,9 +58,7 @@ def bound_names(nodes):
 
 class Language(unittest.TestCase):
     def each(self):
-        for path, text in trees():
-            with self.subTest(path.name):
-                yield text, walked(text)
+        return [(text, walked(text)) for path, text in trees()]
 
     def test_files(self):
         self.assertIn(FOLDER / "__init__.py", FILES)

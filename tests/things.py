@@ -36,3 +36,8 @@ def is_plain(thing):
     if isinstance(thing, tuple):
         return all(is_plain(item) for item in thing)
     return isinstance(thing, (str, int)) and not isinstance(thing, bool)
+
+
+def some_pieces(source, many, letters="ab", most=6):
+    """Some pieces, of a random source that the test hands in with its own seed."""
+    return ["".join(source.choice(letters) for _ in range(source.randrange(1, most + 1))) for _ in range(many)]
