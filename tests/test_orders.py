@@ -54,7 +54,7 @@ class Texts(unittest.TestCase):
         text = text_of(family, order)
         starts = starts_of(family, order)
         laps = [lap(family.words[one], family.words[other]) for one, other in zip(order, order[1:])]
-        wanted, place, begins = "", 0, {}
+        wanted, begins = "", {}
         for at, number in enumerate(order):
             k = laps[at - 1] if at else 0
             begins[number] = len(wanted) - k
