@@ -15,3 +15,8 @@ def is_number(thing):
 def are_numbers(thing, many):
     """Whether a thing is a row of just so many whole numbers."""
     return is_row(thing) and len(thing) == many and all([is_number(item) for item in thing])
+
+
+def are_prices(thing, many):
+    """Whether a thing is a row of just so many whole numbers from 0 on."""
+    return are_numbers(thing, many) and all([price >= 0 for price in thing])

@@ -1,6 +1,7 @@
 """The package keeps to the part of Python that it is written in."""
 
 import ast
+import builtins
 import pathlib
 import re
 import unittest
@@ -44,6 +45,35 @@ def trees():
 
 def walked(text):
     return list(ast.walk(ast.parse(text)))
+
+
+WALKED = {"zip", "enumerate", "reversed", "range"}
+
+WALKERS = {"list", "tuple", "dict", "sorted", "sum", "any", "all", "enumerate", "zip", "bytes", "min", "max"}
+
+
+def is_call_of(node, names):
+    return isinstance(node, ast.Call) and isinstance(node.func, ast.Name) and node.func.id in names
+
+
+def walked_on_the_spot(nodes):
+    """All things that are walked, or handed to what walks them, where they stand."""
+    spots = [node.iter for node in nodes if isinstance(node, (ast.For, ast.comprehension))]
+    spots += [node.args[0] for node in nodes if is_call_of(node, WALKERS)]
+    spots += [node.args[0] for node in nodes if is_call_of(node, {"len", "reversed"})
+              and is_call_of(node.args[0], {"range"})]
+    spots += [node.comparators[0] for node in nodes if isinstance(node, ast.Compare)
+              and isinstance(node.ops[0], (ast.In, ast.NotIn))]
+    return spots
+
+
+def top_names(text):
+    """All names that a file defines at its top."""
+    names = []
+    for row in ast.parse(text).body:
+        names += [row.name] if isinstance(row, (ast.FunctionDef, ast.ClassDef)) else []
+        names += [target.id for target in row.targets] if isinstance(row, ast.Assign) else []
+    return names
 
 
 def bound_names(nodes):
@@ -90,6 +120,42 @@ class Language(unittest.TestCase):
                     self.assertIn(ast.dump(node), [ast.dump(row) for row in top])
                     self.assertTrue(all(name.name != "*" and name.asname is None for name in node.names))
 
+    def test_drawn_names(self):
+        defined = {f"shortglue.{path.stem}": top_names(text) for path, text in trees()}
+        above = {}
+        for path, text in trees():
+            rows = [row for row in ast.parse(text).body if isinstance(row, ast.ImportFrom)]
+            above[f"shortglue.{path.stem}"] = [row.module for row in rows]
+            used = {node.id for node in walked(text) if isinstance(node, ast.Name)}
+            for row in rows:
+                for name in row.names:
+                    self.assertIn(name.name, defined[row.module])
+                    self.assertIn(name.name, used)
+        # Files that draw from none that is left are taken away, until none is left.
+        while above:
+            free = [file for file in above if not any(other in above for other in above[file])]
+            self.assertTrue(free, above)
+            above = {file: others for file, others in above.items() if file not in free}
+
+    def test_walked_at_once(self):
+        for _, nodes in self.each():
+            spots = walked_on_the_spot(nodes)
+            for node in nodes:
+                named = isinstance(node, ast.Call) and isinstance(node.func, ast.Attribute)
+                if is_call_of(node, WALKED) or named and node.func.attr in ("items", "keys", "values"):
+                    self.assertTrue(any(node is spot for spot in spots), ast.unparse(node))
+
+    def test_sets_and_powers(self):
+        for _, nodes in self.each():
+            kept = [node.value for node in nodes if isinstance(node, ast.Assign)]
+            asked = [node.args[0] for node in nodes if is_call_of(node, {"len", "sorted"})]
+            beside = [part for node in nodes if isinstance(node, ast.Compare) for part in [node.left] + node.comparators]
+            for node in nodes:
+                if is_call_of(node, {"set"}) or isinstance(node, (ast.Set, ast.SetComp)):
+                    self.assertTrue(any(node is spot for spot in kept + asked + beside), ast.unparse(node))
+                if isinstance(node, ast.BinOp) and isinstance(node.op, ast.Pow):
+                    self.assertIsInstance(node.right, ast.Constant)
+
     def test_nodes(self):
         for _, nodes in self.each():
             for node in nodes:
@@ -130,6 +196,10 @@ class Language(unittest.TestCase):
             for node in nodes:
                 if isinstance(node, ast.Name):
                     self.assertIn(node.id, known)
+                if isinstance(node, ast.Name) and not isinstance(node.ctx, ast.Load):
+                    self.assertNotIn(node.id, dir(builtins))
+                if isinstance(node, ast.arg):
+                    self.assertNotIn(node.arg, dir(builtins))
 
     def test_methods_and_values(self):
         defs, values = set(), set()

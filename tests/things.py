@@ -1,5 +1,7 @@
 """What several tests hand in."""
 
+import contextlib
+import signal
 from itertools import product
 
 
@@ -41,3 +43,36 @@ def is_plain(thing):
 def some_pieces(source, many, letters="ab", most=6):
     """Some pieces, of a random source that the test hands in with its own seed."""
     return ["".join(source.choice(letters) for _ in range(source.randrange(1, most + 1))) for _ in range(many)]
+
+
+def as_lists(thing):
+    """The same thing with lists in the place of tuples, made anew."""
+    return [as_lists(item) for item in thing] if isinstance(thing, (list, tuple)) else thing
+
+
+def words_of_length(source, many, letters, signs):
+    """So many different pieces of one length: none of them is left out of a family."""
+    words = {}
+    while len(words) < many:
+        words["".join(source.choice(letters) for _ in range(signs))] = True
+    return list(words)
+
+
+def ahead_of_all(texts):
+    """The shortest text, of several the first in order of signs."""
+    return min(texts, key=lambda text: (len(text), text))
+
+
+@contextlib.contextmanager
+def soon(seconds=30):
+    """Fails if what is done within takes far longer than it should, in time of its own process."""
+    def too_long(number, frame):
+        raise AssertionError("not answered soon")
+
+    before = signal.signal(signal.SIGVTALRM, too_long)
+    signal.setitimer(signal.ITIMER_VIRTUAL, seconds)
+    try:
+        yield
+    finally:
+        signal.setitimer(signal.ITIMER_VIRTUAL, 0)
+        signal.signal(signal.SIGVTALRM, before)
