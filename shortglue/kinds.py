@@ -20,3 +20,8 @@ def are_numbers(thing, many):
 def are_prices(thing, many):
     """Whether a thing is a row of just so many whole numbers from 0 on."""
     return are_numbers(thing, many) and all([price >= 0 for price in thing])
+
+
+def is_price_paper(thing, many):
+    """Whether a thing is a row of two rows, each of just so many whole numbers from 0 on."""
+    return is_row(thing) and len(thing) == 2 and all([are_prices(row, many) for row in thing])

@@ -15,13 +15,18 @@ def check_order(family, order):
         raise NoOrder()
 
 
-def text_of(family, order):
-    """The words in an order, each glued on by the lap of the one before."""
-    check_order(family, order)
-    text = "".join([family.words[number] for number in order[:1]])
-    for before, number in zip(order, order[1:]):
-        text += family.words[number][family.laps[before][number]:]
+def glue_all(words, laps, row):
+    """The words whose numbers a row tells, each glued on by the lap of the one before."""
+    text = "".join([words[number] for number in row[:1]])
+    for before, number in zip(row, row[1:]):
+        text += words[number][laps[before][number]:]
     return text
+
+
+def text_of(family, order):
+    """The text that an order of all words tells."""
+    check_order(family, order)
+    return glue_all(family.words, family.laps, order)
 
 
 def starts_of(family, order):

@@ -1,6 +1,6 @@
 """Prices of words, which show how short no text can be."""
 
-from shortglue.kinds import are_prices, is_row
+from shortglue.kinds import is_price_paper
 from shortglue.pairing import best_pairing
 
 
@@ -10,14 +10,19 @@ def other_pairs(many):
     return [(i, j) for i in numbers for j in numbers if i != j]
 
 
+def pays_laps(paper, laps, pairs):
+    """Whether a thing is a paper (gives, takes) whose prices come up to the laps of these pairs."""
+    if not is_price_paper(paper, len(laps)):
+        return False
+    gives, takes = paper
+    return all([gives[i] + takes[j] >= laps[i][j] for i, j in pairs])
+
+
 def price_bound(family, paper):
     """The bound that a paper (gives, takes) shows, or None if it is no such paper."""
-    many = family.many()
-    if not is_row(paper) or len(paper) != 2 or not all([are_prices(row, many) for row in paper]):
+    if not pays_laps(paper, family.laps, other_pairs(family.many())):
         return None
     gives, takes = paper
-    if any([gives[i] + takes[j] < family.laps[i][j] for i, j in other_pairs(many)]):
-        return None
     return family.total - sum(gives) - sum(takes)
 
 

@@ -42,7 +42,7 @@ def round_of(family, order):
     """The round text of an order: each word without its lap on the next."""
     check_words(family)
     check_order(family, order)
-    heads = heads_of(family)
+    heads = heads_of(family.words, family.laps)
     return "".join([heads[i][j] for i, j in joins_round(order)])
 
 

@@ -28,31 +28,40 @@ def check_few_words(family):
         raise TooGreat(MOST_SHORTEST_WORDS)
 
 
-def heads_of(family):
+def heads_of(words, laps):
     """A table of texts: word i without its lap on word j."""
-    return [[word[:len(word) - k] for k in row] for word, row in zip(family.words, family.laps)]
+    return [[word[:len(word) - k] for k in row] for word, row in zip(words, laps)]
 
 
-def all_ends(heads, lasts):
-    """For each mark of words that are left, and each word not in it, the end that is ahead.
+def sets_left(many):
+    """The choices for each mark of words that are left: each word of it, and the mark without that word."""
+    return [[(i, mark - (1 << i)) for i in members(mark)] for mark in range(1 << many)]
 
-    The end begins with that word, and goes on with the words that are left, in
-    whichever order; word i tells heads[i][j] ahead of word j, or lasts[i] as the last.
+
+def all_ends(heads, lasts, lefts):
+    """For each number of what is left, and each word before it, the end that is ahead.
+
+    The end begins with that word and goes on with what is left, in whichever
+    order. lefts tells for each number the choices (j, rest): word j comes next,
+    and rest, a number told before, is left behind it. Word i tells heads[i][j]
+    ahead of word j, or lasts[i] as the last.
     """
-    numbers = list(range(len(heads)))
-    ends = [list(lasts)]
-    for mark in range(1, 1 << len(heads)):
-        left = members(mark)
-        nexts = [(j, ends[mark - (1 << j)][j]) for j in left]
+    ends = []
+    for choices in lefts:
+        nexts = [(j, ends[rest][j]) for j, rest in choices]
         # What stands before is the same for all of them, so the foremost end
         # alone can become a part of the foremost text.
-        ends.append([foremost([heads[i][j] + end for j, end in nexts]) if i not in left else "" for i in numbers])
+        ends.append([foremost([row[j] + end for j, end in nexts]) for row in heads] if nexts else list(lasts))
     return ends
+
+
+def foremost_text(words, laps, lefts):
+    """The text that is ahead of all that words glued by their laps make, when the last number is left."""
+    ends = all_ends(heads_of(words, laps), words, lefts)
+    return foremost([ends[rest][j] for j, rest in lefts[-1]] or [""])
 
 
 def shortest(family):
     """The text that is ahead of all others that hold all words."""
     check_few_words(family)
-    ends = all_ends(heads_of(family), family.words)
-    whole = len(ends) - 1
-    return foremost([ends[whole - (1 << i)][i] for i in members(whole)] or [""])
+    return foremost_text(family.words, family.laps, sets_left(family.many()))
