@@ -210,6 +210,10 @@ class Language(unittest.TestCase):
             if isinstance(node, ast.Attribute) and isinstance(node.ctx, ast.Store):
                 values.add(node.attr)
         self.assertEqual(defs & values, set())
+        # A set that is kept may not be added to where a class has a method so called.
+        for node in everything:
+            if isinstance(node, ast.Attribute) and node.attr in ("add", "discard"):
+                self.assertNotIn(node.attr, defs | values)
         for node in everything:
             if isinstance(node, ast.Attribute):
                 self.assertIn(node.attr, METHODS | defs | values)
